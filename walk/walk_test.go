@@ -324,7 +324,7 @@ func around(points int) [][3]int {
 	return l
 }
 
-// TestAllSmall has all rows of up to four triangles over up to four points.
+// TestAllSmall has all rows of up to four triangles over up to four points; in each place each is begun in one way.
 func TestAllSmall(t *testing.T) {
 	count := map[api.Errno]int{}
 	for points := range 5 {
